@@ -1,0 +1,1 @@
+"""checkwright: a workshop for check digits."""

@@ -1,0 +1,92 @@
+"""Judging plain values, and adding members that are known to be right.
+
+The modules of the interface check their arguments first and then work with these functions.
+"""
+
+
+def is_whole(value):
+    """Whether a value is a whole number; Python takes a Boolean for an integer, too."""
+    return isinstance(value, int) and not isinstance(value, bool)
+
+
+def is_from(value, least):
+    """Whether a value is a whole number of at least so much."""
+    return is_whole(value) and value >= least
+
+
+def is_below(value, many):
+    """Whether a value is one of the numbers from 0 to many - 1."""
+    return is_whole(value) and 0 <= value < many
+
+
+def are_below(value, many):
+    """Whether a value is a list, of any length, of numbers from 0 to many - 1."""
+    return isinstance(value, list) and all([is_below(one, many) for one in value])
+
+
+def is_each_once(value, many):
+    """Whether a value is a list of all numbers from 0 to many - 1, each once."""
+    # The length comes first: many may have 30 figures.
+    if not isinstance(value, list) or len(value) != many:
+        return False
+    return are_below(value, many) and len(set(value)) == many
+
+
+def power(base, times):
+    """One, so many times multiplied by the base."""
+    product = 1
+    for _ in range(times):
+        product = product * base
+    return product
+
+
+def size_of(orders):
+    """The product of the orders."""
+    many = 1
+    for order in orders:
+        many = many * order
+    return many
+
+
+def plus(orders, member, other):
+    """The sum of two members, figure by figure from the lowest one on."""
+    total, worth = 0, 1
+    for order in reversed(orders):
+        total = total + (member + other) % order * worth
+        member, other, worth = member // order, other // order, worth * order
+    return total
+
+
+def minus(orders, member, other):
+    """The member that is to be added to the other one to come to the first one."""
+    total, worth = 0, 1
+    for order in reversed(orders):
+        total = total + (member - other) % order * worth
+        member, other, worth = member // order, other // order, worth * order
+    return total
+
+
+def sum_up(orders, members):
+    """The sum of all members of a list of any length."""
+    total = 0
+    for member in members:
+        total = plus(orders, total, member)
+    return total
+
+
+def pluses(orders, first, second):
+    """The row of the sums of two rows."""
+    return [plus(orders, one, two) for one, two in zip(first, second)]
+
+
+def minuses(orders, first, second):
+    """The row of the first row's members less those of the second one."""
+    return [minus(orders, one, two) for one, two in zip(first, second)]
+
+
+def turned_round(table):
+    """The list that bears, at each entry of a table, the sign that has this entry."""
+    signs = [0] * len(table)
+    for sign, entry in enumerate(table):
+        signs[entry] = sign
+    return signs

@@ -1,0 +1,50 @@
+"""[1]: each name stands in its module, defined there, with the arguments as they are written."""
+
+import importlib
+import inspect
+import unittest
+
+INTERFACE = {
+    "groups": """are_orders(value) is_member(orders,value) size(orders) figures(orders,member) member_of(orders,told)
+        added(orders,member,other) opposite(orders,member) total_of(orders,row) order_of(orders,member)
+        same_group(orders,other)""",
+    "systems": """is_table(orders,value) is_row(orders,value) is_system(value) is_code(system,value)
+        is_slip(system,value) sum_of(system,code) is_right(system,code) plain_system(orders,places)
+        can_befall(system,code,slip) slipped(system,code,slip)""",
+    "texts": """is_alphabet(number,value) text_of_code(system,alphabet,code) code_of_text(system,alphabet,text)
+        text_of_system(system,alphabet) system_of_text(alphabet,text)""",
+    "checking": """off_by(system,code) sign_wanted(system,code,place) set_right(system,code,place)
+        how_many_codes(system) with_signs(system,names) reordered(system,places) added_to(system,place,member)
+        fixed_at(system,place,sign) put_together(system,other)""",
+    "alike": """are_alike(system,other) parting(system,other) ways_same(orders) least_alike(system)
+        how_many_alike(system)""",
+    "rows": """differences(orders,first,second) sums(orders,first,second) row_can_come(orders,row)
+        tables_of(orders,row) are_tables_of(orders,row,value) next_table(orders,table,row)
+        is_next(orders,table,row,value) next_by_sums(orders,table,row) is_next_by_sums(orders,table,row,value)
+        by_signs(orders,table,row)""",
+    "walks": """changed(orders,first,second,old,last,new) is_changed(orders,first,second,old,last,new,value)
+        rounds(orders,row) are_rounds(orders,row,value)""",
+    "wishes": """is_wish(orders,value) keeps(system,place,wish) keeps_all(system,wishes)
+        first_uneven(orders,wishes) system_for(orders,first,wishes,total) extended(system,wish)
+        rewished(system,place,wish)""",
+}
+
+
+class Interface(unittest.TestCase):
+    def test_functions(self):
+        for name, told in INTERFACE.items():
+            module = importlib.import_module("checkwright." + name)
+            for written in told.split():
+                with self.subTest(module=name, function=written):
+                    word, arguments = written[:-1].split("(")
+                    function = getattr(module, word)
+                    self.assertTrue(inspect.isfunction(function))
+                    self.assertEqual(function.__module__, module.__name__)
+                    parameters = inspect.signature(function).parameters.values()
+                    self.assertEqual([one.name for one in parameters], arguments.split(","))
+                    for one in parameters:
+                        self.assertIs(one.kind, inspect.Parameter.POSITIONAL_OR_KEYWORD)
+
+
+if __name__ == "__main__":
+    unittest.main()
