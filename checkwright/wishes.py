@@ -107,7 +107,7 @@ def is_wish_of(orders, value):
     if not isinstance(value, tuple) or len(value) != 2:
         return False
     kind, row = value
-    return isinstance(kind, str) and kind in KINDS and is_row_of(size_of(orders), row)
+    return kind in KINDS and is_row_of(size_of(orders), row)
 
 
 def are_wishes(orders, value):

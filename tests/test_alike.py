@@ -114,6 +114,7 @@ class AreAlike(Case):
             ((2, 5), (2, 5), [5 * (member // 5) + turned[member % 5] for member in range(10)]),
             ((5, 2), (5, 2), [2 * turned[member // 2] + member % 2 for member in range(10)]),
             ((2, 3), (2, 3), [0, 1, 2, 4, 5, 3]), ((3, 2), (3, 2), [0, 3, 2, 5, 4, 1]), ((2, 4), (8,), list(range(8))),
+            ((2, 3, 3), (2, 3, 3), list(range(9)) + [10, 11, 9, 13, 14, 12, 16, 17, 15]),
         ]:
             group, other_group = Group(orders), Group(others)
             for system in (group.system(random, 3), (orders, [list(range(group.size)) for _ in range(3)], 0)):
