@@ -66,6 +66,15 @@ def minus(orders, member, other):
     return total
 
 
+def multiple(orders, member, times):
+    """A member added to nought so many times."""
+    total, worth = 0, 1
+    for order in reversed(orders):
+        total = total + member * times % order * worth
+        member, worth = member // order, worth * order
+    return total
+
+
 def sum_up(orders, members):
     """The sum of all members of a list of any length."""
     total = 0
@@ -90,3 +99,42 @@ def turned_round(table):
     for sign, entry in enumerate(table):
         signs[entry] = sign
     return signs
+
+
+def times_each(row):
+    """How often each entry of a row comes in it."""
+    times = {}
+    for entry in row:
+        times[entry] = times.get(entry, 0) + 1
+    return times
+
+
+def how_many_pairs(sizes):
+    """How many pairs lie each within one of some classes of these sizes."""
+    return sum([many * (many - 1) // 2 for many in sizes])
+
+
+def how_many_equal(row):
+    """How many pairs of places of a row have equal entries."""
+    return how_many_pairs(list(times_each(row).values()))
+
+
+def equal_pairs(row):
+    """The pairs of places, the lesser one first, at which a row has equal entries, in order."""
+    return [(one, two) for one in range(len(row)) for two in range(one + 1, len(row)) if row[one] == row[two]]
+
+
+def inverse_modulo(number, modulus):
+    """What comes to 1 modulo a modulus, times a number that has no divisor above 1 in common with it."""
+    rest, divisor, last, times = modulus, number, 0, 1
+    while divisor > 0:
+        part = rest // divisor
+        rest, divisor = divisor, rest - part * divisor
+        last, times = times, last - part * times
+    return last % modulus
+
+
+def paired(table, other):
+    """The table of the pairs of numbers of two square ones, told as x * len(other) + y, each part for itself."""
+    many = len(other)
+    return [[entry * many + last for entry in row for last in ending] for row in table for ending in other]

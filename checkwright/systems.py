@@ -114,6 +114,18 @@ def check_slip(system, slip):
         raise InvalidSlip(slip)
 
 
+def check_kind(kind):
+    """Raise InvalidSlip unless this is one of the five kinds of slips."""
+    if not is_kind(kind):
+        raise InvalidSlip(kind)
+
+
+def check_start(kind, places, place):
+    """Raise InvalidNumber unless a slip of a kind can begin at this one of so many places."""
+    if not is_below(place, how_many_starts(kind, places)):
+        raise InvalidNumber(place)
+
+
 def is_row_of(many, value):
     """Whether a value is a list of so many members of a group of this size."""
     return isinstance(value, list) and len(value) == many and are_below(value, many)
@@ -131,12 +143,20 @@ def is_slip_of(system, value):
     if not isinstance(value, tuple) or len(value) != 4:
         return False
     kind, place, sign, other = value
-    if not isinstance(kind, str) or kind not in REACHES:
+    if not is_kind(kind) or not is_below(place, how_many_starts(kind, len(system[1]))):
         return False
     many = size_of(system[0])
-    if not is_below(place, len(system[1]) - REACHES[kind]):
-        return False
     return is_below(sign, many) and is_below(other, many) and sign != other
+
+
+def is_kind(value):
+    """Whether a value is one of the five kinds of slips."""
+    return isinstance(value, str) and value in REACHES
+
+
+def how_many_starts(kind, places):
+    """At how many of so many places, from the first one on, a slip of a kind can begin."""
+    return places - REACHES[kind]
 
 
 def sum_borne(system, code):

@@ -76,6 +76,18 @@ def rewished(system, place, wish):
     return (orders, kept + [[table[sign] for sign in signs] for table in tables[place + 1:]], total)
 
 
+def check_wish_kind(kind):
+    """Raise InvalidWish unless this is a kind of wishes."""
+    if kind not in KINDS:
+        raise InvalidWish(kind)
+
+
+def check_wish_kinds(kinds):
+    """Raise InvalidWish unless these are a list, not empty, of kinds of wishes."""
+    if not isinstance(kinds, list) or len(kinds) == 0 or not all([kind in KINDS for kind in kinds]):
+        raise InvalidWish(kinds)
+
+
 def check_wish(orders, wish):
     """Raise InvalidWish unless this is a wish of the orders."""
     if not is_wish_of(orders, wish):
@@ -119,11 +131,12 @@ def keep_wish(system, place, wish):
     """Whether the tables at a place and the next one keep what is known to be a wish."""
     orders, tables, _ = system
     kind, row = wish
-    if kind == "swap":
-        found = minuses(orders, tables[place], tables[place + 1])
-    else:
-        found = pluses(orders, tables[place], tables[place + 1])
-    return sorted(found) == sorted(row)
+    return sorted(row_by(orders, kind, tables[place], tables[place + 1])) == sorted(row)
+
+
+def row_by(orders, kind, first, second):
+    """The row on which a kind hangs: the differences of two tables, or their sums."""
+    return minuses(orders, first, second) if kind == "swap" else pluses(orders, first, second)
 
 
 def uneven_at(orders, wishes):

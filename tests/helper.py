@@ -164,6 +164,55 @@ def wrong_wish_lists(size, many):
     return strange() + lists + [0, wish, tuple([wish] * many), {0: wish}, [[wish] * many]]
 
 
+def wrong_wish_kinds():
+    """What is no list, not empty, of kinds of wishes."""
+    return strange() + [
+        [], "swap", ("swap",), ["jump"], ["swap", "single"], ["jumptwin", "twin"], ["swap", None], ["Swap"], [["swap"]],
+        ["swap", 0], [True], {"swap": 1}, [("swap",)], ["swap", ""],
+    ]
+
+
+def wrong_one_wish_kind():
+    """What is no kind of wishes."""
+    return strange_but("swap") + ["jump", "single", "jumptwin", "Swap", "twins", 0, 1, ["swap"], ("twin",), {"twin": 1}]
+
+
+def wrong_slip_kinds():
+    """What is no kind of slips."""
+    return strange_but("swap") + ["Single", "twins", "jump ", "singles", 0, 1, ["swap"], ("twin",), {"twin": 1}, "swaptwin"]
+
+
+def wrong_groups():
+    """What is no group, much of it almost the one of three members."""
+    rows = [[0, 1, 2], [1, 2, 0], [2, 0, 1]]
+    return strange() + [
+        0, [], [0], [[]], [[1]], [[0, 1]], [[0], [0]], [[0, 1], [1]], [[0, 1], [1, 1]], [[1, 0], [0, 1]], [[0, 1], [0, 1]],
+        tuple(rows), [tuple(row) for row in rows], rows[:2], rows + [rows[0]], rows[1:] + rows[:1],
+        [rows[0], rows[2], rows[1]],
+        rows[:2] + [[2, 0]], rows[:2] + [[2, 0, 1, 0]], rows[:2] + [[2, 0, 3]], rows[:2] + [[2, 0, -1]],
+        rows[:2] + [[2, 0, True]], rows[:2] + [[2, False, 1]], rows[:2] + [[2, 0, None]], rows[:2] + [None],
+        [[0, 1, 2], [1, 0, 2], [2, 2, 0]], {0: rows[0], 1: rows[1], 2: rows[2]}, [rows], [[False]], "012120201",
+        [[0, 1, 2, 3, 4], [1, 0, 3, 4, 2], [2, 4, 0, 1, 3], [3, 2, 4, 0, 1], [4, 3, 1, 2, 0]],
+    ]
+
+
+def wrong_squares():
+    """What is no square, much of it almost one of three signs."""
+    rows = [[2, 0, 1], [0, 1, 2], [1, 2, 0]]
+    return strange() + [
+        0, [], [0], [[0]], [[]], [[0, 1]], [[0, 1], [0, 1]], [[0, 0], [1, 1]], [[0, 1], [1, 1]], [[1, 2], [2, 1]],
+        tuple(rows), [tuple(row) for row in rows], rows[:2], rows + [rows[0]], rows[:2] + [rows[0]], [rows[0]] * 3,
+        rows[:2] + [[1, 2]], rows[:2] + [[1, 2, 0, 0]], rows[:2] + [[1, 2, 3]], rows[:2] + [[1, 2, -1]],
+        rows[:2] + [[True, 2, 0]], rows[:2] + [[1, 2, False]], rows[:2] + [[1, 2, None]], rows[:2] + [None],
+        [[0, 1, 2], [1, 2, 0], [2, 1, 0]], [[0, 1, 2], [2, 0, 1], [1, 0, 2]], {0: rows[0], 1: rows[1], 2: rows[2]}, [rows],
+        [row[:] for row in rows[:2]] + ["120"], [[False, True], [True, False]],
+    ]
+
+
+def strange_but(*those):
+    return [value for value in strange() if shape(value) not in [shape(one) for one in those]]
+
+
 def shape(value):
     """A value with all its kinds, so that True and 1, or a list and a tuple, differ."""
     if isinstance(value, (list, tuple)):
