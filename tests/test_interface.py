@@ -27,6 +27,33 @@ INTERFACE = {
     "wishes": """is_wish(orders,value) keeps(system,place,wish) keeps_all(system,wishes)
         first_uneven(orders,wishes) system_for(orders,first,wishes,total) extended(system,wish)
         rewished(system,place,wish)""",
+    "quiet": """passing_counts(system) is_quiet(system) quietest(orders,kinds) quiet_system(orders,places)
+        quiet_orders(number)""",
+    "least": """halves(orders) sum_of_all(orders) least_passing(orders) best_tables(orders,kind)
+        is_best(orders,kind,value) passing_pairs(orders,kind,first,second)
+        how_many_pass(orders,kind,first,second)""",
+    "classes": """sizes_of(orders,row) can_come(orders,sizes) members_for(orders,sizes)
+        tables_with(orders,kind,sizes) is_with(orders,kind,sizes,value) all_sizes(orders) all_counts(orders)
+        tables_passing(orders,kind,number)""",
+    "linear": """is_linear(value) weighted_sum(linear,code) is_right_weighted(linear,code) as_system(linear)
+        coefficient(linear,kind,place) step_of(linear,kind,place) how_many_by(linear,kind,place)
+        pairs_by(linear,kind,place) signs_at(linear,code,place) how_many_weighted(linear)""",
+    "weights": """are_perfect(modulus,kinds,value) can_be_perfect(modulus,places,kinds)
+        perfect_weights(modulus,places,kinds) least_by(modulus) two_weights(modulus)
+        power_system(modulus,signs,ratio,places,total) steps_of_powers(modulus,ratio)""",
+    "grouped": """is_group(value) group_of(orders) joined(group,other) inverse(group,member) commutes(group)
+        is_box(value) product_of(box,code) is_right_box(box,code) sign_for(box,code,place)
+        passing_swaps(box,place) passing_twins(box,place) is_quiet_box(box)""",
+    "dihedral": """dihedral(turns) dihedral_map(turns,shift) is_antisymmetric(group,value) first_map(group)
+        box_of(group,table,places,total) quiet_box(size,places,total)""",
+    "squares": """is_square(value) weighted(size,weight) field_square(bits) renamed(square,states,signs)
+        joined_squares(square,other) how_many_swaps(square) quiet_square(size)""",
+    "chains": """is_chain(value) states_of(chain,code) is_right_chain(chain,code) sign_at(chain,code,place)
+        swaps_of(square) twins_of(square) is_quiet_square(square) how_many_slip(chain,length,place)
+        how_many_right_lists(chain,length)""",
+    "slips": """passes(system,slip) passing(system,kind,place) counts(system,kind) possible(system,kind)
+        caught(system) worst_place(system,kind) first_passing(system,kind) own_slips(system,code,kind)
+        unseen(system,code)""",
 }
 
 
