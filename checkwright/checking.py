@@ -18,16 +18,15 @@ def sign_wanted(system, code, place):
     check_system(system)
     check_code(system, code)
     check_place(system, place)
-    orders, tables, total = system
-    excess = minus(orders, sum_borne(system, code), total)
-    table = tables[place]
-    return table.index(minus(orders, table[code[place]], excess))
+    return wanted_at(system, code, place)
 
 
 def set_right(system, code, place):
     """The number with the sign at a place that makes it right."""
-    wanted = sign_wanted(system, code, place)
-    return code[:place] + [wanted] + code[place + 1:]
+    check_system(system)
+    check_code(system, code)
+    check_place(system, place)
+    return set_at(system, code, place)
 
 
 def how_many_codes(system):
@@ -91,6 +90,19 @@ def check_place(system, place):
     """Raise InvalidNumber unless this is a place of the system."""
     if not is_below(place, len(system[1])):
         raise InvalidNumber(place)
+
+
+def wanted_at(system, code, place):
+    """The sign that has to stand at what is known to be a place."""
+    orders, tables, total = system
+    excess = minus(orders, sum_borne(system, code), total)
+    table = tables[place]
+    return table.index(minus(orders, table[code[place]], excess))
+
+
+def set_at(system, code, place):
+    """The number with the sign at what is known to be a place that makes it right."""
+    return code[:place] + [wanted_at(system, code, place)] + code[place + 1:]
 
 
 def copied(tables):

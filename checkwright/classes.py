@@ -1,10 +1,10 @@
 """Which numbers of pairs can pass between two neighbouring tables."""
 
-from checkwright.errors import InvalidNumber, InvalidRow
+from checkwright.errors import InvalidRow
 from checkwright.groups import check_orders
 from checkwright.least import are_two_tables, tables_by
 from checkwright.plain import how_many_pairs, is_from, multiple, plus, size_of, times_each
-from checkwright.systems import check_row
+from checkwright.systems import check_count, check_row
 from checkwright.wishes import check_wish_kind, row_by
 
 
@@ -32,7 +32,8 @@ def tables_with(orders, kind, sizes):
     check_orders(orders)
     check_wish_kind(kind)
     check_sizes(orders, sizes)
-    return tables_of_sizes(orders, kind, sizes)
+    row = row_of_sizes(orders, sizes)
+    return None if row is None else tables_by(orders, kind, row)
 
 
 def is_with(orders, kind, sizes, value):
@@ -61,15 +62,9 @@ def tables_passing(orders, kind, number):
     """Any tuple of two tables of which just so many pairs pass, None if there are none."""
     check_orders(orders)
     check_wish_kind(kind)
-    if not is_from(number, 0):
-        raise InvalidNumber(number)
-    many = size_of(orders)
-    for sizes in descending_lists(many, many):
-        if how_many_pairs(sizes) == number:
-            tables = tables_of_sizes(orders, kind, sizes)
-            if tables is not None:
-                return tables
-    return None
+    check_count(number)
+    row = row_passing(orders, number)
+    return None if row is None else tables_by(orders, kind, row)
 
 
 def check_sizes(orders, sizes):
@@ -85,15 +80,26 @@ def sizes_borne(row):
     return sorted(list(times_each(row).values()), reverse=True)
 
 
-def tables_of_sizes(orders, kind, sizes):
-    """Two tables whose row of the kind has what are known to be sizes, None if these can't come."""
+def row_of_sizes(orders, sizes):
+    """A row that sums to nought with what are known to be sizes, None if these can't come."""
     members = first_members(orders, sizes)
     if members is None:
         return None
     row = []
     for member, many in zip(members, sizes):
         row.extend([member] * many)
-    return tables_by(orders, kind, row)
+    return row
+
+
+def row_passing(orders, number):
+    """A row that sums to nought by which just so many pairs pass, None if there is none."""
+    many = size_of(orders)
+    for sizes in descending_lists(many, many):
+        if how_many_pairs(sizes) == number:
+            row = row_of_sizes(orders, sizes)
+            if row is not None:
+                return row
+    return None
 
 
 def first_members(orders, sizes):

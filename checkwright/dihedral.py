@@ -5,6 +5,7 @@ from checkwright.grouped import check_group, do_commute, group_of, multiplied
 from checkwright.plain import is_below, is_each_once, is_from
 from checkwright.quiet import quiet_orders
 from checkwright.rows import following
+from checkwright.systems import check_count
 
 
 def dihedral(turns):
@@ -16,8 +17,7 @@ def dihedral(turns):
 def dihedral_map(turns, shift):
     """The table of the dihedral group that turns the turns back and shifts the mirrors."""
     check_turns(turns)
-    if not is_from(shift, 0):
-        raise InvalidNumber(shift)
+    check_count(shift)
     return [-turn % turns for turn in range(turns)] + [turns + (turn + shift) % turns for turn in range(turns)]
 
 

@@ -2,11 +2,9 @@
 
 from math import gcd
 
-from checkwright.errors import InvalidCode, InvalidLinear, InvalidNumber, Stuck, TooMany
+from checkwright.errors import InvalidCode, InvalidLinear, InvalidNumber, Stuck
 from checkwright.plain import are_below, inverse_modulo, is_below, is_from, power
-from checkwright.systems import REACHES, check_kind, check_start
-
-MOST_LISTED = 2000
+from checkwright.systems import REACHES, check_kind, check_many, check_start
 
 
 def is_linear(value):
@@ -114,12 +112,6 @@ def check_slips(linear, kind, place):
     check_linear(linear)
     check_kind(kind)
     check_start(kind, len(linear[2]), place)
-
-
-def check_many(many):
-    """Raise TooMany with how many they are if these are too many to be listed."""
-    if many > MOST_LISTED:
-        raise TooMany(many)
 
 
 def are_weights(modulus, value):

@@ -3,6 +3,8 @@
 The modules of the interface check their arguments first and then work with these functions.
 """
 
+from math import gcd
+
 
 def is_whole(value):
     """Whether a value is a whole number; Python takes a Boolean for an integer, too."""
@@ -24,12 +26,24 @@ def are_below(value, many):
     return isinstance(value, list) and all([is_below(one, many) for one in value])
 
 
+def are_below_or_none(value, many):
+    """Whether a value is a list, of any length, of numbers from 0 to many - 1 and None."""
+    return isinstance(value, list) and all([one is None or is_below(one, many) for one in value])
+
+
 def is_each_once(value, many):
     """Whether a value is a list of all numbers from 0 to many - 1, each once."""
     # The length comes first: many may have 30 figures.
     if not isinstance(value, list) or len(value) != many:
         return False
     return are_below(value, many) and len(set(value)) == many
+
+
+def is_prime_below(value, bound):
+    """Whether a value is a prime number below a small bound."""
+    if not is_from(value, 2) or value >= bound:
+        return False
+    return all([value % divisor != 0 for divisor in range(2, value)])
 
 
 def power(base, times):
@@ -132,6 +146,17 @@ def inverse_modulo(number, modulus):
         rest, divisor = divisor, rest - part * divisor
         last, times = times, last - part * times
     return last % modulus
+
+
+def lowest_terms(top, bottom):
+    """The tuple of a share in lowest terms, of a bottom of at least 1."""
+    common = gcd(top, bottom)
+    return (top // common, bottom // common)
+
+
+def listed_once(codes):
+    """The unlike ones of a list of lists of numbers, in order, each of them a new list."""
+    return [list(code) for code in sorted({tuple(code) for code in codes})]
 
 
 def paired(table, other):

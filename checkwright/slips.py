@@ -32,8 +32,7 @@ def possible(system, kind):
     """How many slips of a kind there are."""
     check_system(system)
     check_kind(kind)
-    many = size_of(system[0])
-    return many * (many - 1) * how_many_starts(kind, len(system[1]))
+    return possible_by(system, kind)
 
 
 def caught(system):
@@ -76,9 +75,16 @@ def unseen(system, code):
 
 
 def row_of_slips(system, kind, place):
-    """A row of which two entries are equal exactly if the slips of the kind with their signs pass at the place."""
+    """The row on which it hangs which slips of a kind pass at a place."""
     orders, tables, _ = system
-    first, last = tables[place], tables[place + REACHES[kind]]
+    return row_of_tables(orders, kind, tables[place], tables[place + REACHES[kind]])
+
+
+def row_of_tables(orders, kind, first, last):
+    """A row of which two entries are equal exactly if the slips of the kind with their signs pass.
+
+    By the entry of the other sign, less that of the sign, each slip shifts the sum.
+    """
     if kind == "single":
         return first
     return minuses(orders, first, last) if kind in ("swap", "jump") else pluses(orders, first, last)
@@ -101,6 +107,12 @@ def counts_by(system, kind):
     """How many slips of what is known to be a kind pass at each place."""
     starts = how_many_starts(kind, len(system[1]))
     return [2 * how_many_equal(row_of_slips(system, kind, place)) for place in range(starts)]
+
+
+def possible_by(system, kind):
+    """How many slips of what is known to be a kind there are."""
+    many = size_of(system[0])
+    return many * (many - 1) * how_many_starts(kind, len(system[1]))
 
 
 def befalling(system, code, kind):

@@ -1,11 +1,14 @@
 """Tables, systems, their numbers, and the slips that can befall these."""
 
-from checkwright.errors import InvalidCode, InvalidNumber, InvalidRow, InvalidSlip, InvalidSystem, InvalidTable
+from checkwright.errors import (
+    InvalidCode, InvalidNumber, InvalidRow, InvalidSlip, InvalidSystem, InvalidTable, TooMany,
+)
 from checkwright.groups import are_orders, check_orders
 from checkwright.plain import are_below, is_below, is_each_once, is_from, size_of, sum_up
 
 # How far the last place of a slip of each kind lies behind its first one.
 REACHES = {"single": 0, "swap": 1, "jump": 2, "twin": 1, "jumptwin": 2}
+MOST_LISTED = 2000
 
 
 def is_table(orders, value):
@@ -120,6 +123,24 @@ def check_kind(kind):
         raise InvalidSlip(kind)
 
 
+def check_kinds_among(told, kinds):
+    """Raise InvalidSlip unless kinds are a list, not empty, of some of the told ones, in their order."""
+    if not isinstance(kinds, list) or len(kinds) == 0 or kinds != [kind for kind in told if kind in kinds]:
+        raise InvalidSlip(kinds)
+
+
+def check_count(number):
+    """Raise InvalidNumber unless this is a count."""
+    if not is_from(number, 0):
+        raise InvalidNumber(number)
+
+
+def check_many(many):
+    """Raise TooMany with how many they are if these are too many to be listed."""
+    if many > MOST_LISTED:
+        raise TooMany(many)
+
+
 def check_start(kind, places, place):
     """Raise InvalidNumber unless a slip of a kind can begin at this one of so many places."""
     if not is_below(place, how_many_starts(kind, places)):
@@ -140,12 +161,16 @@ def is_code_of(system, value):
 
 def is_slip_of(system, value):
     """Whether a value is a slip of what is known to be a system."""
+    return is_slip_among(size_of(system[0]), len(system[1]), value)
+
+
+def is_slip_among(many, places, value):
+    """Whether a value is a slip of numbers with so many signs to take from, and so many places."""
     if not isinstance(value, tuple) or len(value) != 4:
         return False
     kind, place, sign, other = value
-    if not is_kind(kind) or not is_below(place, how_many_starts(kind, len(system[1]))):
+    if not is_kind(kind) or not is_below(place, how_many_starts(kind, places)):
         return False
-    many = size_of(system[0])
     return is_below(sign, many) and is_below(other, many) and sign != other
 
 
@@ -179,6 +204,12 @@ def signs_behind(slip):
     """The signs at the first and at the last place behind a slip."""
     kind, _, sign, other = slip
     return (other, sign) if kind in ("swap", "jump") else (other, other)
+
+
+def gone_back(slip):
+    """The slip that takes a slip back."""
+    kind, place, sign, other = slip
+    return (kind, place, other, sign)
 
 
 def befalls(code, slip):

@@ -6,7 +6,10 @@ from contextlib import contextmanager
 from itertools import product
 from math import prod
 
-from checkwright.errors import CheckError, InvalidNumber, NothingToUndo, Stuck
+from checkwright.errors import CheckError, InvalidNumber, NothingToUndo, Stuck, TooMany
+
+KINDS = ["single", "swap", "jump", "twin", "jumptwin"]
+REACHES = {"single": 0, "swap": 1, "jump": 2, "twin": 1, "jumptwin": 2}
 
 
 class Group:
@@ -57,6 +60,77 @@ class Group:
 
     def right_codes(self, system):
         return [code for code in self.codes(system) if self.sum_of(system, code) == system[2]]
+
+
+def all_slips(size, places, kind):
+    """All slips of a kind, in order."""
+    return [
+        (kind, place, sign, other) for place in range(places - REACHES[kind])
+        for sign, other in product(range(size), repeat=2) if sign != other]
+
+
+def behind(code, slip):
+    """The number behind a slip, None if it can't befall the number."""
+    kind, place, sign, other = slip
+    last, turned = place + REACHES[kind], list(code)
+    if kind in ("swap", "jump"):
+        if (code[place], code[last]) != (sign, other):
+            return None
+        turned[place], turned[last] = other, sign
+    else:
+        if (code[place], code[last]) != (sign, sign):
+            return None
+        turned[place] = turned[last] = other
+    return turned
+
+
+def befallen(places, slip):
+    """A number that a slip can befall."""
+    kind, place, sign, other = slip
+    code = [0] * places
+    code[place] = sign
+    code[place + REACHES[kind]] = other if kind in ("swap", "jump") else sign
+    return code
+
+
+def shift_by_words(group, system, slip):
+    """By which member the sum of a number, which a slip can befall, is greater behind it."""
+    code = befallen(len(system[1]), slip)
+    return group.sub(group.sum_of(system, behind(code, slip)), group.sum_of(system, code))
+
+
+def drawn_pattern(random, size, places):
+    return [sorted(random.sample(range(size), random.randrange(1, size + 1))) for _ in range(places)]
+
+
+def sums_of_double(double, code):
+    prime, columns, _ = double
+    return tuple(sum(sign * column[side] for sign, column in zip(code, columns)) % prime for side in (0, 1))
+
+
+def right_of_double(double):
+    prime, columns, totals = double
+    return [code for code in product(range(prime), repeat=len(columns)) if sums_of_double(double, code) == totals]
+
+
+def explained_by_words(double, kinds):
+    """For each number that comes of a right one by a slip: the tuples of the slip and the right number, in order."""
+    found, every = {}, right_of_double(double)
+    for kind in kinds:
+        for slip in all_slips(double[0], len(double[1]), kind):
+            for right in every:
+                code = behind(right, slip)
+                if code is not None:
+                    found.setdefault(tuple(code), []).append((slip, right))
+    return {code: sorted(told) for code, told in found.items()}
+
+
+def drawn_double(random, prime, places):
+    """A drawn double, often with few points."""
+    pairs = [(random.randrange(prime), random.randrange(prime)) for _ in range(places)]
+    while (0, 0) in pairs or all((a * pairs[0][1] - b * pairs[0][0]) % prime == 0 for a, b in pairs):
+        pairs = [(random.randrange(prime), random.randrange(prime)) for _ in range(places)]
+    return (prime, pairs, (random.randrange(prime), random.randrange(prime)))
 
 
 def nested(depth, kind):
@@ -182,6 +256,83 @@ def wrong_slip_kinds():
     return strange_but("swap") + ["Single", "twins", "jump ", "singles", 0, 1, ["swap"], ("twin",), {"twin": 1}, "swaptwin"]
 
 
+def wrong_kind_lists(first, second):
+    """What is no list, not empty, of two kinds, each once at most, in order."""
+    return strange() + [
+        [], first, (first,), (first, second), [second, first], [first, first], [first, second, second], [first, "jump"],
+        ["jump"], [first, second, "zzz"], [first, None], [first, 0], [True, second], [[first]], {first: 1}, [first + " "],
+    ]
+
+
+def wrong_unlike_kinds():
+    """What is no list, not empty, of unlike kinds of slips."""
+    return strange() + [
+        [], "swap", ("swap",), ["swap", "swap"], KINDS + ["twin"], ["Swap"], ["swap", None], ["swap", 0], [["swap"]],
+        ["swap", "twin", "swap"], {"swap": 1}, ["swap", ("twin",)], ["jumps"], ["single", True],
+    ]
+
+
+def wrong_gaps(places, size):
+    """What is no number, even with None in the place of some signs."""
+    told = [value for value in wrong_codes(places, size) if not isinstance(value, list) or None not in value]
+    gaps = [None] * places
+    return told + [
+        gaps[1:], gaps + [None], gaps + [0], tuple(gaps), gaps[1:] + [size], [-1] + gaps[1:], gaps[1:] + [True], [gaps],
+        [False] + gaps[1:], gaps[1:] + ["0"], gaps[1:] + [[]], gaps[1:] + [[None]], dict.fromkeys(range(places)), [[]] * places,
+    ]
+
+
+def wrong_patterns(places, size):
+    """What is no pattern of a system of at least three places."""
+    told = [[0, size - 1] for _ in range(places)]
+    signs = [
+        [0, 0], [1, 0], [size], [0, size], [-1], [-1, 0], [True], [False, 1], [0, True], (0, 1), 0, None, True, "0", ["0"], [None],
+        {0: 1}, [[0]], [()], "", (),
+    ]
+    return strange() + [
+        0, [], told[1:], told + [[0]], told + [[]], tuple(told), [told], dict(enumerate(told)), [0] * places,
+    ] + [told[1:] + [bad] for bad in signs] + [[bad] + told[1:] for bad in signs]
+
+
+def wrong_doubles():
+    """What is no double, much of it almost one modulo five of three columns."""
+    columns = [(1, 0), (1, 1), (1, 2)]
+    return strange() + [
+        (5, columns), (5, columns, (0, 0), 0), [5, columns, (0, 0)], (4, columns, (0, 0)), (1, columns, (0, 0)),
+        (0, columns, (0, 0)), (-5, columns, (0, 0)), (True, [(1, 0), (0, 1)], (0, 0)), (1009, columns, (0, 0)), (1000, columns, (0, 0)),
+        (993, columns, (0, 0)), (10 ** 29, columns, (0, 0)), ("5", columns, (0, 0)), (None, columns, (0, 0)), ((5,), columns, (0, 0)),
+        (5, tuple(columns), (0, 0)), (5, columns[:1], (0, 0)), (5, [], (0, 0)), (5, columns + [(0, 0)], (0, 0)),
+        (5, columns + [(5, 0)], (0, 0)), (5, columns + [(0, -1)], (0, 0)), (5, columns + [[1, 3]], (0, 0)),
+        (5, columns + [(1,)], (0, 0)), (5, columns + [(1, 2, 3)], (0, 0)), (5, columns + [(True, 1)], (0, 0)),
+        (5, columns + [(1, False)], (0, 0)), (5, columns + [None], (0, 0)), (5, columns + [(1, None)], (0, 0)),
+        (5, [(1, 2), (1, 2)], (0, 0)), (5, [(1, 2), (2, 4), (3, 1), (4, 3)], (0, 0)), (5, [(0, 1), (0, 4)], (0, 0)),
+        (5, [(3, 0), (1, 0), (2, 0)], (0, 0)), (2, [(1, 1), (1, 1)], (0, 0)), (5, columns, [0, 0]), (5, columns, (0,)),
+        (5, columns, (0, 0, 0)), (5, columns, (5, 0)), (5, columns, (0, 5)), (5, columns, (-1, 0)), (5, columns, (False, 0)),
+        (5, columns, (0, True)), (5, columns, (None, 0)), (5, columns, None), (5, columns, 0), (5, dict(enumerate(columns)), (0, 0)),
+    ]
+
+
+def wrong_primes(bound, beyond):
+    """What is no prime below a bound; of the primes, `beyond` is the first one that is none."""
+    return strange() + [
+        1, 0, -2, -5, 4, 9, 15, 35, bound, beyond, 10 ** 29, 10 ** 29 + 319, "5", [5], (5,), {5: 5},
+    ]
+
+
+def wrong_columns(prime):
+    return strange() + [
+        (0, 0), (1,), (1, 2, 3), [1, 2], (prime, 1), (1, prime), (-1, 1), (1, -1), (True, 1), (1, True), (False, 1), (1, None),
+        ((1, 2),), "12", 1, {1: 2}, ("1", 2), ([1], 2),
+    ]
+
+
+def wrong_totals(prime):
+    return strange() + [
+        (0,), (0, 0, 0), [0, 0], (prime, 0), (0, prime), (-1, 0), (0, -1), (True, 0), (0, False), (None, 0), (0, None), ((0, 0),),
+        "00", 0, {0: 0}, ("0", 0), ([0], 0),
+    ]
+
+
 def wrong_groups():
     """What is no group, much of it almost the one of three members."""
     rows = [[0, 1, 2], [1, 2, 0], [2, 0, 1]]
@@ -284,6 +435,14 @@ class Case(unittest.TestCase):
             else:
                 self.fail(f"{function.__name__}{tuple(given)!r} returned {result!r} instead of {kind.__name__}")
         self.assertEqual(shape(given), before)
+
+    def too_many(self, many, function, /, **named):
+        """That a call raises TooMany with how many there are."""
+        before = shape(list(named.values()))
+        with self.assertRaises(TooMany) as caught:
+            function(**named)
+        self.same(caught.exception.value, many)
+        self.assertEqual(shape(list(named.values())), before)
 
     def refuses(self, function, good, wrongs):
         """That each wrong argument is refused, also where all later ones are wrong, too.

@@ -138,8 +138,8 @@ chain = (weighted(5, 3), 0, 0)
 # [[48, 48, 48], 0]
 """
 
-# Without the lines that ask checkwright.shares, which is not written yet.
 SLIPS = r"""
+from checkwright.shares import best_order, fewest_in_order, is_never_worse, share_of, share_unseen, weights_against
 from checkwright.slips import caught, counts, first_passing, own_slips, passes, passing, possible, unseen, worst_place
 three, ten = ((3,), [[0, 1, 2], [0, 2, 1], [0, 1, 2]], 0), ((10,), [[0, 1, 2, 3, 4, 5, 6, 7, 8, 9], [0, 3, 6, 9, 2, 5, 8, 1, 4, 7], [0, 1, 2, 3, 4, 5, 6, 7, 8, 9]], 0)
 [passes(three, ("swap", 0, 1, 2)), passes(three, ("twin", 0, 1, 2)), passes(ten, ("swap", 0, 1, 6)), passes(ten, ("single", 0, 1, 6)), counts(three, "swap"), counts(three, "twin"), counts(three, "jump"), possible(three, "twin")]
@@ -148,6 +148,41 @@ three, ten = ((3,), [[0, 1, 2], [0, 2, 1], [0, 1, 2]], 0), ((10,), [[0, 1, 2, 3,
 # [[], [10, 10], [10, 10], ["single", "swap", "jumptwin"], ["single"], 0, None, ("swap", 0, 0, 5)]
 [own_slips(three, [0, 1, 1], "swap"), own_slips(three, [0, 1, 1], "twin"), unseen(three, [0, 1, 1])]
 # [[("swap", 0, 0, 1)], [("twin", 1, 1, 0), ("twin", 1, 1, 2)], [("jump", 0, 0, 1), ("twin", 1, 1, 0), ("twin", 1, 1, 2)]]
+[share_of(ten, "swap"), share_unseen(ten, (79, 10, 1, 1, 0)), is_never_worse(three, ten), weights_against(three, ten), weights_against(ten, three)]
+# [(1, 9), (20, 819), False, "twin", "swap"]
+[best_order((3,), [[0, 1, 2], [0, 1, 2], [0, 2, 1]], "swap"), fewest_in_order((3,), [[0, 1, 2], [0, 1, 2], [0, 2, 1]], "swap")]
+# [[0, 2, 1], 0]
+"""
+
+MENDING = r"""
+from checkwright.distances import distance, how_many_at, nearest_right, shift_of, shifts, slips_by
+from checkwright.mending import filling_numbered, fillings, how_many_fillings, is_mend, could_be_meant, mends, sure_signs
+up, three = [0, 1, 2, 3, 4, 5, 6, 7, 8, 9], [0, 3, 6, 9, 2, 5, 8, 1, 4, 7]
+goods, wrong = ((10,), [up, three, up, three], 0), [1, 2, 3, 4]
+[how_many_fillings(goods, [1, None, 3, None]), fillings(goods, [1, None, 3, None])[:2], filling_numbered(goods, [1, None, 3, None], 9), fillings(goods, [1, 2, 3, None]), fillings(goods, wrong)]
+# [10, [[1, 0, 3, 2], [1, 1, 3, 1]], [1, 9, 3, 3], [[1, 2, 3, 0]], []]
+[mends(goods, wrong, "swap"), mends(goods, wrong, "jump"), len(mends(goods, wrong, "single")), is_mend(goods, wrong, (("single", 3, 0, 4), [1, 2, 3, 0]))]
+# [[(("swap", 0, 2, 1), [2, 1, 3, 4]), (("swap", 2, 4, 3), [1, 2, 4, 3])], [], 4, True]
+[could_be_meant(goods, wrong, ["swap"]), sure_signs(goods, wrong, ["swap"]), sure_signs(goods, wrong, ["jump"]), could_be_meant(goods, [1, 2, 3, 0], ["single", "swap"])]
+# [[[1, 2, 4, 3], [2, 1, 3, 4]], [None, None, None, None], None, []]
+[distance(goods, wrong, [1, 2, 0, 0]), [how_many_at(goods, wrong, many) for many in [0, 1, 2, 3, 4, 5]], nearest_right(goods, wrong), nearest_right(goods, [1, 2, 3, 0])]
+# [2, [0, 4, 48, 292, 656, 0], [[1, 2, 1, 4], [1, 2, 3, 0], [1, 8, 3, 4], [9, 2, 3, 4]], [[1, 2, 3, 0]]]
+[shift_of(goods, ("swap", 0, 2, 1)), shift_of(goods, ("swap", 0, 1, 6)), shifts(goods, "single")[:2], shifts(goods, "swap")[:3]]
+# [2, 0, [0, 40], [30, 0, 60]]
+"""
+
+DOUBLES = r"""
+from checkwright.apart import all_points, are_two_ways, by_points, spread_double, two_ways, unseen_swaps
+from checkwright.doubles import could_have_been, explained, filled_numbered, how_many_filled, is_double, is_right_double, off_sums, point_of
+five, lazy = (5, [(1, 0), (1, 1), (1, 2)], (0, 0)), (5, [(1, 0), (2, 0), (0, 1)], (0, 0))
+[is_double(five), is_double((4, [(1, 0), (0, 1)], (0, 0))), is_double((5, [(1, 2), (2, 4)], (0, 0))), point_of(5, (2, 4)), point_of(5, (0, 3))]
+# [True, False, False, (1, 2), (0, 1)]
+[off_sums(five, [1, 3, 1]), is_right_double(five, [1, 3, 1]), off_sums(five, [1, 3, 2]), explained(five, ["single"], [1, 3, 2]), could_have_been(five, ["single"], [1, 3, 2])]
+# [(0, 0), True, (1, 2), [("single", 2, 1, 2)], [[1, 3, 1]]]
+[explained(five, ["single", "swap"], [3, 1, 1]), two_ways(five, ["single"]), are_two_ways(lazy, ["single"], ([1, 0, 0], ("single", 0, 0, 1), ("single", 1, 2, 0))), unseen_swaps((3, [(1, 1), (1, 1), (0, 1)], (0, 0)))]
+# [[("swap", 0, 1, 3)], None, True, [0]]
+[all_points(2, (0, 0)), spread_double(3, 3, (0, 0)), how_many_filled(five, [None, 3, None]), filled_numbered(five, [None, 3, None], 0), how_many_filled(lazy, [None, None, 0]), filled_numbered(lazy, [None, None, 0], 1)]
+# [(2, [(0, 1), (1, 0), (1, 1)], (0, 0)), None, 1, [1, 3, 1], 5, [1, 2, 0]]
 """
 
 
@@ -192,6 +227,12 @@ class Examples(Case):
 
     def test_slips(self):
         self.run_lines(SLIPS)
+
+    def test_mending(self):
+        self.run_lines(MENDING)
+
+    def test_doubles(self):
+        self.run_lines(DOUBLES)
 
 
 if __name__ == "__main__":

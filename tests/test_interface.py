@@ -3,6 +3,7 @@
 import importlib
 import inspect
 import unittest
+from pathlib import Path
 
 INTERFACE = {
     "groups": """are_orders(value) is_member(orders,value) size(orders) figures(orders,member) member_of(orders,told)
@@ -54,6 +55,18 @@ INTERFACE = {
     "slips": """passes(system,slip) passing(system,kind,place) counts(system,kind) possible(system,kind)
         caught(system) worst_place(system,kind) first_passing(system,kind) own_slips(system,code,kind)
         unseen(system,code)""",
+    "shares": """share_of(system,kind) share_unseen(system,weights) is_never_worse(system,other)
+        weights_against(system,other) best_order(orders,tables,kind) fewest_in_order(orders,tables,kind)""",
+    "mending": """how_many_fillings(system,gaps) fillings(system,gaps)
+        filling_numbered(system,gaps,number) mends(system,code,kind) is_mend(system,code,value)
+        could_be_meant(system,code,kinds) sure_signs(system,code,kinds)""",
+    "distances": """distance(system,code,other) how_many_at(system,code,many) nearest_right(system,code)
+        shift_of(system,slip) shifts(system,kind) slips_by(system,kind,member)""",
+    "doubles": """is_double(value) off_sums(double,code) is_right_double(double,code)
+        point_of(prime,column) explained(double,kinds,code) could_have_been(double,kinds,code)
+        how_many_filled(double,gaps) filled_numbered(double,gaps,number)""",
+    "apart": """two_ways(double,kinds) are_two_ways(double,kinds,value) unseen_swaps(double)
+        by_points(prime,points,totals) all_points(prime,totals) spread_double(prime,places,totals)""",
 }
 
 
@@ -71,6 +84,11 @@ class Interface(unittest.TestCase):
                     self.assertEqual([one.name for one in parameters], arguments.split(","))
                     for one in parameters:
                         self.assertIs(one.kind, inspect.Parameter.POSITIONAL_OR_KEYWORD)
+
+    def test_nothing_is_left_out(self):
+        folder = Path(importlib.import_module("checkwright").__file__).parent
+        modules = {path.stem for path in folder.iterdir()} - {"__init__", "__pycache__", "plain", "errors"}
+        self.assertEqual(modules, set(INTERFACE))
 
 
 if __name__ == "__main__":

@@ -1,7 +1,7 @@
 """[50] to [53]: which slips pass, and which can befall a number."""
 
 import unittest
-from itertools import permutations, product
+from itertools import permutations
 from random import Random
 
 from checkwright.errors import InvalidCode, InvalidNumber, InvalidSlip, InvalidSystem
@@ -11,47 +11,19 @@ from checkwright.slips import (
 )
 from checkwright.systems import can_befall, is_slip
 from tests.helper import (
-    Case, Group, wrong_codes, wrong_places, wrong_slip_kinds, wrong_slips, wrong_systems,
+    KINDS, REACHES, Case, Group, all_slips, behind, shift_by_words, wrong_codes, wrong_places, wrong_slip_kinds, wrong_slips,
+    wrong_systems,
 )
 
-KINDS = ["single", "swap", "jump", "twin", "jumptwin"]
-REACHES = {"single": 0, "swap": 1, "jump": 2, "twin": 1, "jumptwin": 2}
 THREE = ((3,), [[0, 1, 2], [0, 2, 1], [1, 2, 0]], 1)
 SYSTEM = ("system", InvalidSystem, wrong_systems())
 KIND = ("kind", InvalidSlip, wrong_slip_kinds())
 CODE = ("code", InvalidCode, wrong_codes(3, 3))
 
 
-def all_slips(group, places, kind):
-    """All slips of a kind, in order."""
-    signs = range(group.size)
-    return [
-        (kind, place, sign, other) for place in range(places - REACHES[kind])
-        for sign, other in product(signs, repeat=2) if sign != other]
-
-
-def behind(code, slip):
-    """The number behind a slip, None if it can't befall the number."""
-    kind, place, sign, other = slip
-    last, turned = place + REACHES[kind], list(code)
-    if kind in ("swap", "jump"):
-        if (code[place], code[last]) != (sign, other):
-            return None
-        turned[place], turned[last] = other, sign
-    else:
-        if (code[place], code[last]) != (sign, sign):
-            return None
-        turned[place] = turned[last] = other
-    return turned
-
-
 def passes_by_words(group, system, slip):
     """Whether the sum of some number, which the slip can befall, is the same behind it."""
-    kind, place, sign, other = slip
-    code = [0] * len(system[1])
-    code[place] = sign
-    code[place + REACHES[kind]] = other if kind in ("swap", "jump") else sign
-    return group.sum_of(system, code) == group.sum_of(system, behind(code, slip))
+    return shift_by_words(group, system, slip) == 0
 
 
 def some_systems():
@@ -74,7 +46,7 @@ class WhichPass(Case):
             system = group.system(Random(501), 3)
             codes = group.codes(system)
             for kind in KINDS:
-                for slip in all_slips(group, 3, kind):
+                for slip in all_slips(group.size, 3, kind):
                     found = set()
                     for code in codes:
                         turned = behind(code, slip)
@@ -88,13 +60,13 @@ class WhichPass(Case):
         for second in permutations(range(4)):
             system = ((4,), [[2, 0, 1, 3], list(second)], 3)
             for kind in KINDS:
-                for slip in all_slips(group, 2, kind):
+                for slip in all_slips(group.size, 2, kind):
                     self.assertIs(passes(system, slip), passes_by_words(group, system, slip))
 
     def test_slips_and_slips_back(self):
         for group, system in some_systems():
             for kind in KINDS:
-                for slip in all_slips(group, len(system[1]), kind):
+                for slip in all_slips(group.size, len(system[1]), kind):
                     wanted = passes_by_words(group, system, slip)
                     self.assertIs(passes(system, slip), wanted)
                     self.assertIs(passes(system, (*slip[:2], slip[3], slip[2])), wanted)
@@ -112,7 +84,7 @@ class AllOfAKind(Case):
             places = len(system[1])
             swaps_and_twins = passing_counts(system)
             for kind in KINDS:
-                slips = all_slips(group, places, kind)
+                slips = all_slips(group.size, places, kind)
                 told = [slip for slip in slips if passes_by_words(group, system, slip)]
                 found = []
                 for place in range(places - REACHES[kind]):
@@ -162,7 +134,7 @@ class AllOfAKind(Case):
                     first_passing(system, kind)
                     worst_place(system, kind)
                 caught(system)
-            last = [slip for slip in all_slips(group, 40, "jump") if slip[1] == 37]
+            last = [slip for slip in all_slips(group.size, 40, "jump") if slip[1] == 37]
             wanted = [slip for slip in last if passes_by_words(group, system, slip)]
             self.gives(wanted, passing, system=system, kind="jump", place=37)
 
@@ -180,7 +152,7 @@ class WhatIsCaught(Case):
             places = len(system[1])
             fine = []
             for kind in KINDS:
-                told = [slip for slip in all_slips(group, places, kind) if passes_by_words(group, system, slip)]
+                told = [slip for slip in all_slips(group.size, places, kind) if passes_by_words(group, system, slip)]
                 found = [len([slip for slip in told if slip[1] == place]) for place in range(places)]
                 if not told:
                     fine.append(kind)
@@ -222,7 +194,7 @@ class OwnSlips(Case):
     def check(self, group, system, code):
         every = []
         for kind in KINDS:
-            found = [slip for slip in all_slips(group, len(code), kind) if behind(code, slip) is not None]
+            found = [slip for slip in all_slips(group.size, len(code), kind) if behind(code, slip) is not None]
             self.gives(found, own_slips, system=system, code=code, kind=kind)
             for slip in found:
                 self.assertTrue(is_slip(system, slip) and can_befall(system, code, slip))
