@@ -7,6 +7,7 @@ from itertools import product
 from math import prod
 
 from checkwright.errors import CheckError, InvalidNumber, NothingToUndo, Stuck, TooMany
+from checkwright.office import LiveOffice
 
 KINDS = ["single", "swap", "jump", "twin", "jumptwin"]
 REACHES = {"single": 0, "swap": 1, "jump": 2, "twin": 1, "jumptwin": 2}
@@ -145,7 +146,7 @@ def strange():
     return [
         None, True, False, -1, "", " ", "0", "swap", "a\tb\n", {}, {0: 1}, (), (None,), [None], [[]], ((),), [True], (True,),
         nested(30, list), nested(30, tuple), {"swap": [0, 1, 2]}, InvalidNumber(3), CheckError("x"), NothingToUndo(),
-        [Stuck((3,))], (InvalidNumber(), [0]),
+        [Stuck((3,))], (InvalidNumber(), [0]), LiveOffice(((2,), [[0, 1], [1, 0]], 1)), [LiveOffice(((3,), [[0, 1, 2]] * 2, 0))],
     ]
 
 
@@ -370,6 +371,8 @@ def shape(value):
         return (type(value).__name__, [shape(one) for one in value])
     if isinstance(value, dict):
         return ("dict", [(shape(key), shape(one)) for key, one in value.items()])
+    if isinstance(value, LiveOffice):
+        return ("LiveOffice", shape(value.system()), shape(value.log()))
     if isinstance(value, ValueError):
         return (type(value).__name__, shape(getattr(value, "value", None)))
     return (type(value).__name__, value)

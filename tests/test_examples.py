@@ -185,6 +185,57 @@ five, lazy = (5, [(1, 0), (1, 1), (1, 2)], (0, 0)), (5, [(1, 0), (2, 0), (0, 1)]
 # [(2, [(0, 1), (1, 0), (1, 1)], (0, 0)), None, 1, [1, 3, 1], 5, [1, 2, 0]]
 """
 
+COUNTING = r"""
+from checkwright.counting import fits, how_many_right, is_pattern, issued, last_right, next_right, number_of, right_numbered, sums_of
+from checkwright.safe import cost_of_safety, how_many_safe, is_safe, next_safe, safe_numbered
+two = ((3,), [[0, 1, 2], [0, 1, 2], [0, 1, 2]], 0)
+any_sign, some = [[0, 1, 2]] * 3, [[0, 1], [0, 2], [1, 2]]
+[how_many_right(two, any_sign), how_many_right(two, some), sums_of(two, some), is_pattern(two, [[0], [], [2]]), is_pattern(two, [[0], [1, 1], [2]]), fits(two, some, [0, 2, 1])]
+# [9, 2, [2, 3, 3], True, False, True]
+[right_numbered(two, any_sign, 0), right_numbered(two, any_sign, 8), right_numbered(two, any_sign, 9), number_of(two, any_sign, [1, 1, 1]), number_of(two, any_sign, [2, 2, 0])]
+# [[0, 0, 0], [2, 2, 2], None, 4, 8]
+[next_right(two, any_sign, [0, 0, 0]), last_right(two, any_sign, [0, 0, 0]), issued(two, some, [0, 0, 0], 5)]
+# [[0, 1, 2], None, [[0, 2, 1], [1, 0, 2]]]
+[is_safe(two, ["swap"], [0, 0, 0]), is_safe(two, ["swap"], [0, 1, 2]), how_many_safe(two, ["swap"], any_sign), safe_numbered(two, ["swap"], any_sign, 1), next_safe(two, ["swap"], any_sign, [1, 1, 1]), cost_of_safety(two, ["swap"])]
+# [True, False, 3, [1, 1, 1], [2, 2, 2], (1, 3)]
+"""
+
+OFFICE = r"""
+from checkwright.office import LiveOffice, is_deed
+three = ((3,), [[0, 1, 2], [0, 2, 1]], 0)
+live = LiveOffice(three)
+[is_deed(live, ("issue", [[1, 1], [0, 0]])), is_deed(live, ("issue", [[1, 2]])), is_deed(live, ("next", 3)), is_deed(live, ("next", 4)), live.first_free(), live.how_many_free()]
+# [True, False, True, False, [0, 0], 3]
+live.do(("issue", [[1, 1]]))
+live.do(("next", 1))
+[live.in_use(), live.state_of([2, 2]), live.state_of([2, 1]), live.first_free(), live.meant([1, 0])]
+# [[[1, 1], [0, 0]], "free", "wrong", [2, 2], [([0, 0], ("single", 0, 0, 1)), ([1, 1], ("single", 1, 1, 0))]]
+live.do(("strike", [1, 1]))
+[live.in_use(), live.struck(), live.state_of([1, 1]), live.clashes(), live.undo(), live.clashes(), live == live.copy()]
+# [[[0, 0]], [[1, 1]], "struck", [], None, [([0, 0], ("twin", 0, 0, 1)), ([1, 1], ("twin", 0, 1, 0))], True]
+live.do(("next", 1))
+live.do(("strike", [2, 2]))
+live.do(("strike", [0, 0]))
+[live.in_use(), live.struck()]
+# [[[1, 1]], [[2, 2], [0, 0]]]
+"""
+
+NEVER = r"""
+from checkwright.never import afar_system, barely_caught, is_quiet_afar, least_caught, passing_afar
+from checkwright.ways import both_quiet, how_many_next, how_many_systems, system_passing
+three = ((3,), [[0, 1, 2], [0, 2, 1], [0, 1, 2]], 0)
+[least_caught((10,)), least_caught((9,)), least_caught((2,)), least_caught((2, 2)), barely_caught((2,), "swap"), passing_afar(three, 0, 2), passing_afar(three, 0, 1)]
+# [16, 15, None, 4, None, [(0, 1), (0, 2), (1, 2)], []]
+[is_quiet_afar(three), is_quiet_afar(afar_system(11, 10)), afar_system(3, 3), is_quiet_afar(afar_system(3, 2)), afar_system(2, 2)]
+# [False, True, None, True, None]
+[both_quiet((3,), 2), both_quiet((10,), 4), both_quiet((9, 2), 2), len(both_quiet((5,), 4)[1]), len(both_quiet((5, 7), 3)[1])]
+# [None, None, None, 4, 3]
+[how_many_next((3,), [0, 1, 2]), how_many_next((5,), [0, 1, 2, 3, 4]), how_many_next((4,), [0, 1, 2, 3]), how_many_next((3,), [1, 1, 1]), how_many_systems((3,), [("swap", [0, 1, 2]), ("twin", [2, 2, 2])])]
+# [3, 15, 0, 1, 3]
+[system_passing((4,), ["swap", "twin"], [1, 3]), system_passing((2,), ["swap", "swap"], [1, 0]), len(system_passing((4,), ["swap", "twin"], [2, 6])[1])]
+# [None, None, 3]
+"""
+
 
 class Examples(Case):
     def run_lines(self, text):
@@ -233,6 +284,15 @@ class Examples(Case):
 
     def test_doubles(self):
         self.run_lines(DOUBLES)
+
+    def test_counting(self):
+        self.run_lines(COUNTING)
+
+    def test_office(self):
+        self.run_lines(OFFICE)
+
+    def test_never(self):
+        self.run_lines(NEVER)
 
 
 if __name__ == "__main__":

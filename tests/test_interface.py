@@ -5,6 +5,8 @@ import inspect
 import unittest
 from pathlib import Path
 
+from checkwright.office import LiveOffice
+
 INTERFACE = {
     "groups": """are_orders(value) is_member(orders,value) size(orders) figures(orders,member) member_of(orders,told)
         added(orders,member,other) opposite(orders,member) total_of(orders,row) order_of(orders,member)
@@ -67,7 +69,22 @@ INTERFACE = {
         how_many_filled(double,gaps) filled_numbered(double,gaps,number)""",
     "apart": """two_ways(double,kinds) are_two_ways(double,kinds,value) unseen_swaps(double)
         by_points(prime,points,totals) all_points(prime,totals) spread_double(prime,places,totals)""",
+    "counting": """is_pattern(system,value) fits(system,pattern,code) sums_of(system,pattern)
+        how_many_right(system,pattern) right_numbered(system,pattern,number)
+        number_of(system,pattern,code) next_right(system,pattern,code) last_right(system,pattern,code)
+        issued(system,pattern,code,many)""",
+    "safe": """is_safe(system,kinds,code) how_many_safe(system,kinds,pattern)
+        safe_numbered(system,kinds,pattern,number) next_safe(system,kinds,pattern,code)
+        cost_of_safety(system,kinds)""",
+    "office": """is_deed(live,value)""",
+    "never": """least_caught(orders) barely_caught(orders,kind) passing_afar(system,place,other)
+        is_quiet_afar(system) afar_system(prime,places)""",
+    "ways": """both_quiet(orders,places) how_many_next(orders,row) how_many_systems(orders,wishes)
+        system_passing(orders,kinds,numbers)""",
 }
+
+LIVE_OFFICE = """system() do(deed) undo() redo() log() copy() in_use() struck() how_many_free() first_free()
+    state_of(code) meant(code) clashes()"""
 
 
 class Interface(unittest.TestCase):
@@ -84,6 +101,20 @@ class Interface(unittest.TestCase):
                     self.assertEqual([one.name for one in parameters], arguments.split(","))
                     for one in parameters:
                         self.assertIs(one.kind, inspect.Parameter.POSITIONAL_OR_KEYWORD)
+
+    def test_live_office(self):
+        self.assertEqual(LiveOffice.__module__, "checkwright.office")
+        self.assertEqual(list(inspect.signature(LiveOffice).parameters), ["system"])
+        for written in LIVE_OFFICE.split():
+            with self.subTest(method=written):
+                word, arguments = written[:-1].split("(")
+                # In the class itself, not only in a base class.
+                method = vars(LiveOffice)[word]
+                self.assertTrue(inspect.isfunction(method))
+                parameters = inspect.signature(method).parameters.values()
+                self.assertEqual([one.name for one in parameters], ["self", *filter(None, arguments.split(","))])
+                for one in parameters:
+                    self.assertIs(one.kind, inspect.Parameter.POSITIONAL_OR_KEYWORD)
 
     def test_nothing_is_left_out(self):
         folder = Path(importlib.import_module("checkwright").__file__).parent
