@@ -122,16 +122,16 @@ def code_of_both(double, one, other):
     for times in range(1, prime):
         if one[2] == taken(prime, other[2], times):
             told = solved(prime, equations_of(double, one, other, times))
-            # The last of what is told is by how much the signs of the first slip differ.
+            # Behind the signs it is told by how much those of the first slip differ.
             if told is not None and told[-1] != 0:
                 return told[:-1]
     return None
 
 
 def equations_of(double, one, other, times):
-    """What holds for the signs of a number, and for a difference of signs behind them, that two moves explain.
+    """What holds for the signs of a number that slips of two moves explain, and for a difference behind them.
 
-    The signs of the first move's slip differ by the difference, those of the other one's by so many times as much.
+    The signs of the first slip differ by this difference, those of the other one by so many times as much.
     """
     prime, columns, totals = double
     rows = []
@@ -148,26 +148,24 @@ def equations_of(double, one, other, times):
 def solved(prime, equations):
     """Any solution of linear equations modulo a prime, with 1 for whatever is left open, None if there is none.
 
-    Each equation has the factors of all unknowns, and behind them what they come to. Nothing ahead of it is left
-    open for the sake of an unknown; so the last one is told only if it can be nothing else.
+    Each equation has the factors of all unknowns, and behind them what they come to. They are solved for the
+    unknowns in order; so the last one is left open, and 1, unless it is the same in all solutions.
     """
-    rows, leading = [list(row) for row in equations], []
-    for unknown in range(len(rows[0]) - 1):
+    many, rows, leading = len(equations[0]) - 1, list(equations), []
+    for unknown in range(many):
         at = len(leading)
         able = [number for number in range(at, len(rows)) if rows[number][unknown] != 0]
         if len(able) > 0:
             rows[at], rows[able[0]] = rows[able[0]], rows[at]
             inverse = inverse_modulo(rows[at][unknown], prime)
-            rows[at] = [entry * inverse % prime for entry in rows[at]]
-            for number in range(len(rows)):
-                if number != at:
-                    rows[number] = cleared(prime, rows[number], rows[at], unknown)
+            leader = [entry * inverse % prime for entry in rows[at]]
+            rows = [leader if number == at else cleared(prime, row, leader, unknown) for number, row in enumerate(rows)]
             leading.append(unknown)
     if any([row[-1] != 0 for row in rows[len(leading):]]):
         return None
-    told = [1] * (len(rows[0]) - 1)
+    told = [1] * many
     for unknown, row in zip(leading, rows):
-        # All other leading unknowns have the factor 0 here, the open ones are 1.
+        # This unknown has the factor 1, all others that are solved for have 0, and the open ones are 1.
         told[unknown] = (row[-1] - sum(row[:-1]) + 1) % prime
     return told
 

@@ -121,7 +121,7 @@ def is_deed(live, value):
     """Whether a value is a deed that can be done now."""
     if not isinstance(live, LiveOffice):
         raise InvalidDeed(live)
-    if not isinstance(value, tuple) or len(value) != 2 or not isinstance(value[0], str):
+    if not isinstance(value, tuple) or len(value) != 2:
         return False
     word, told = value
     if word == "issue":

@@ -140,6 +140,7 @@ class Office(Case):
             ("next", True), ("next", None), ("next", [1]), ("next", "1"), ("next",), ["next", 1], ("next", 1, 1), ("nexts", 1),
             ("strike", [1, 1, 0]), ("strike", [0, 1, 1]), ("strike", [0, 0, 1]), ("strike", [0, 0, False]), ("strike", (0, 0, 0)),
             ("strike", [[0, 0, 0]]), ("strike", [0, 0]), ("strike", None), ["strike", [0, 0, 0]], (None, 1), (["next"], 1),
+            ("strikes", [0, 0, 0]), ("Strike", [0, 0, 0]), ("", [0, 0, 0]), (None, [0, 0, 0]), (0, [0, 0, 0]), ([], [0, 0, 0]),
             ({}, 1), (1, "next"), ("", 1), "next", ("strike", []), ("next", "many"),
         ] + [("strike", bad) for bad in wrong_codes(3, 3)] + [("issue", [bad]) for bad in wrong_codes(3, 3)]
         wrong += [("next", bad) for bad in wrong_counts(1)] + [("issue", bad) for bad in strange()]
